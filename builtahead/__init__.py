@@ -1,0 +1,1 @@
+"""Builtahead: a program of steps made ahead, right for all worlds."""

@@ -1,0 +1,159 @@
+"""What LANGUAGE.md says of the files of the package, as far as the code alone shows it."""
+
+import ast
+import builtins
+import pathlib
+import unittest
+
+FOLDER = pathlib.Path(__file__).resolve().parent.parent / "builtahead"
+FILES = sorted(FOLDER.glob("*.py"))
+LIBRARY = {"math": {"gcd", "lcm", "isqrt", "comb"}}
+BUILTINS = set(
+    "len range enumerate zip min max sum abs sorted reversed int str bool list tuple dict set isinstance any all divmod "
+    "super type ValueError TypeError KeyError".split()
+)
+METHODS = set(
+    "append clear copy count endswith extend find get index insert isalnum isalpha isdigit islower isspace isupper items "
+    "join keys ljust lower lstrip partition pop remove replace reverse rfind rjust rpartition rsplit rstrip setdefault "
+    "split splitlines startswith strip update upper values zfill bit_length isascii removeprefix removesuffix add "
+    "discard".split()
+)
+BARRED_NODES = (
+    ast.GeneratorExp, ast.Yield, ast.YieldFrom, ast.Await, ast.AsyncFunctionDef, ast.Global, ast.Import, ast.Pow, ast.Div,
+    ast.Try, ast.With, ast.NamedExpr,
+)
+BARRED_WORDS = ("typing", "enum", "Enum", "Flag", "Generic", "Protocol", "ABC", "dataclass", "_wall", "_WallAttr", "elements")
+
+
+def trees():
+    return [(path, ast.parse(path.read_text())) for path in FILES]
+
+
+def functions_of(tree):
+    return [node for node in ast.walk(tree) if isinstance(node, ast.FunctionDef)]
+
+
+def imports_of(tree):
+    return [node for node in tree.body if isinstance(node, ast.ImportFrom)]
+
+
+def bound_names(tree):
+    """All names of parameters and variables of the file."""
+    names = {node.arg for node in ast.walk(tree) if isinstance(node, ast.arg)}
+    return names | {node.id for node in ast.walk(tree) if isinstance(node, ast.Name) and isinstance(node.ctx, ast.Store)}
+
+
+class LanguageTest(unittest.TestCase):
+
+    def test_the_folder_holds_python_files_alone(self):
+        found = [path for path in FOLDER.iterdir() if path.name != "__pycache__"]
+        self.assertEqual(sorted(found), FILES)
+        self.assertIn(FOLDER / "__init__.py", FILES)
+
+    def test_sizes_and_characters(self):
+        for path in FILES:
+            lines = path.read_text(encoding="utf-8").split("\n")
+            self.assertLessEqual(len(lines) - 1, 399, path)
+            for line in lines:
+                self.assertLessEqual(len(line), 120, (path, line))
+                self.assertTrue(all(" " <= sign <= "~" for sign in line), (path, line))
+                self.assertEqual(line, line.rstrip(), (path, line))
+        for path, tree in trees():
+            for function in functions_of(tree):
+                self.assertLessEqual(function.end_lineno - function.lineno + 1, 40, (path, function.name))
+                self.assertFalse(function.decorator_list)
+
+    def test_module_level(self):
+        kinds = (ast.ImportFrom, ast.FunctionDef, ast.ClassDef, ast.Assign)
+        for path, tree in trees():
+            self.assertTrue(ast.get_docstring(tree), path)
+            names = [node.name for node in tree.body if hasattr(node, "name")]
+            for at, node in enumerate(tree.body[1:]):
+                self.assertIsInstance(node, kinds, path)
+                if isinstance(node, ast.Assign):
+                    self.assertIsInstance(node.value, ast.Constant, path)
+                    names.append(node.targets[0].id)
+            names += [part.name for node in imports_of(tree) for part in node.names]
+            self.assertEqual(len(names), len(set(names)), path)
+
+    def test_imports(self):
+        defined, above = {}, {}
+        for path, tree in trees():
+            defined["builtahead." + path.stem] = {node.name for node in tree.body if hasattr(node, "name")}
+        for path, tree in trees():
+            used = {node.id for node in ast.walk(tree) if isinstance(node, ast.Name)}
+            above["builtahead." + path.stem] = [node.module for node in imports_of(tree) if node.module in defined]
+            for node in imports_of(tree):
+                self.assertEqual(node.level, 0)
+                for part in node.names:
+                    self.assertIsNone(part.asname)
+                    self.assertIn(part.name, defined.get(node.module, LIBRARY.get(node.module)), path)
+                    self.assertIn(part.name, used, f"{path} does not use {part.name}")
+        while above:
+            free = [file for file in above if not any(other in above for other in above[file])]
+            self.assertTrue(free, f"imports go round: {above}")
+            above = {file: others for file, others in above.items() if file not in free}
+
+    def test_words_and_nodes(self):
+        for path, tree in trees():
+            for node in ast.walk(tree):
+                self.assertNotIsInstance(node, BARRED_NODES, (path, getattr(node, "lineno", 0)))
+                self.assertFalse(isinstance(node, ast.Constant) and isinstance(node.value, float))
+                if isinstance(node, ast.Compare) and isinstance(node.ops[0], (ast.Is, ast.IsNot)):
+                    right = node.comparators[0]
+                    is_kind = isinstance(node.left, ast.Call) and node.left.func.id == "type"
+                    self.assertTrue(is_kind or (isinstance(right, ast.Constant) and right.value in (None, True, False)))
+            words = {part for node in ast.walk(tree) for part in [getattr(node, "id", ""), getattr(node, "attr", "")]}
+            self.assertNotIn("%", "".join(
+                node.value for node in ast.walk(tree) if isinstance(node, ast.Constant) and isinstance(node.value, str)
+            ))
+            for word in BARRED_WORDS:
+                self.assertNotIn(word, words, path)
+
+    def test_calls(self):
+        for path, tree in trees():
+            for node in ast.walk(tree):
+                if isinstance(node, ast.Name) and hasattr(builtins, node.id):
+                    self.assertIn(node.id, BUILTINS, (path, node.lineno))
+                if isinstance(node, ast.Call) and isinstance(node.func, ast.Attribute):
+                    is_super = isinstance(node.func.value, ast.Call) and getattr(node.func.value.func, "id", "") == "super"
+                    self.assertTrue(is_super or node.func.attr in METHODS, (path, node.lineno))
+
+    def test_names(self):
+        for path, tree in trees():
+            taken = {part.name for node in imports_of(tree) for part in node.names}
+            taken |= {node.name for node in tree.body if isinstance(node, ast.ClassDef)}
+            for name in bound_names(tree) | {function.name for function in functions_of(tree)} - {"__init__"}:
+                self.assertFalse(hasattr(builtins, name), (path, name))
+                self.assertNotIn(name, taken, path)
+                self.assertFalse(name.startswith("__"), (path, name))
+            for node in ast.walk(tree):
+                self.assertFalse(isinstance(node, ast.Name) and node.id == "_" and isinstance(node.ctx, ast.Load), path)
+
+    def test_sets(self):
+        for path, tree in trees():
+            right = set()
+            for node in ast.walk(tree):
+                if isinstance(node, ast.Call) and getattr(node.func, "id", "") in ("sorted", "len") and not node.keywords:
+                    right.add(node.args[0])
+                if isinstance(node, ast.Assign) and isinstance(node.targets[0], ast.Name):
+                    right.add(node.value)
+            for node in ast.walk(tree):
+                is_call = isinstance(node, ast.Call) and getattr(node.func, "id", "") == "set"
+                if is_call or isinstance(node, (ast.Set, ast.SetComp)):
+                    self.assertIn(node, right, (path, node.lineno))
+
+    def test_each_function_is_told_and_used(self):
+        code = "\n".join(path.read_text() for path in FILES)
+        listed = (FOLDER.parent / "tests" / "test_interface.py").read_text()
+        for path, tree in trees():
+            for node in [node for node in ast.walk(tree) if isinstance(node, (ast.FunctionDef, ast.ClassDef))]:
+                if node.name != "__init__":
+                    self.assertTrue(ast.get_docstring(node), (path, node.name))
+                if isinstance(node, ast.FunctionDef) and node in tree.body:
+                    is_used = code.count(node.name + "(") > 1
+                    self.assertTrue(is_used or node.name + "(" in listed, f"{path}: {node.name} is not used")
+
+
+if __name__ == "__main__":
+    unittest.main()
