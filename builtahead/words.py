@@ -1,4 +1,4 @@
-"""Words of texts: numbers and PLACES."""
+"""Words of texts: numbers, PLACES, and a NAME with a number."""
 
 from builtahead.values import is_name
 
@@ -10,6 +10,15 @@ def number_in(word):
     if word[0] == "0" and len(word) > 1:
         return None
     return int(word)
+
+
+def name_and_number(word, sign):
+    """The pair that a NAME, this sign and a number tell; None if the word is not so written."""
+    name, _, digits = word.partition(sign)
+    number = number_in(digits)
+    if number is None or not is_name(name):
+        return None
+    return name, number
 
 
 def place_word(place):

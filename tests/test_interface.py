@@ -15,6 +15,21 @@ FUNCTIONS = {
     "flows": """all_conditions(source), leaf(tree, conditions), asked_in(tree), plain_tree(tree), leaves(tree),
         telling_conditions(one, other), later_tree(tree, d), is_tree(names, thing),
         tree_of_read(source, name, number), flow(source)""",
+    "texts": """names_text(names), numbers_text(numbers), tree_text(tree), story_text(story), names_from(text),
+        numbers_from(text), story_from(text), tree_from(text)""",
+    "hands": """arrows(rows, waits), gap(rows, waits, one, other), all_gaps(rows, waits), gaps(made),
+        least_gap(made, one, other), gap_way(rows, waits, one, other), is_gap_way(rows, waits, one, other, thing),
+        stuck_ring(rows, waits), is_stuck(rows, waits), is_stuck_ring(rows, waits, thing),
+        is_ahead(rows, waits, one, other, turns), ranks(rows, waits), are_ranks(rows, waits, thing),
+        needed_waits(rows, waits), broken_duties(rows, waits, duties), waits_for(rows, duties),
+        fewer_runs(rows, one, other)""",
+    "runs": """moments(made, turns), has_run(made, turns), is_run(made, turns, thing), all_ahead(made, turns, moment),
+        must_be_ahead(made, turns, one, other), run_with(made, turns, pairs), is_run_with(made, turns, pairs, thing),
+        run_between(made, turns, writer, other, reader), how_many_runs(made, turns), nth_run(made, turns, number),
+        number_of_run(made, turns, run)""",
+    "times": """is_latencies(made, thing), begins(made, turns, latencies), end_time(made, turns, latencies),
+        never_later(one, other), latencies_later(one, other), is_latencies_later(one, other, thing),
+        chain_apart(one, other), most_times(one, other), is_chain_apart(one, other, thing), beat(made, rates)""",
 }
 
 
