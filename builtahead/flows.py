@@ -40,20 +40,28 @@ def asked_in(tree):
     return set_of([part[0] for part in parts_within(tree) if len(part) == 3])
 
 
-def is_tree(names, thing):
-    """Whether the thing is a TREE whose leaves name some of these names."""
-    waiting = [thing]
+def leaf_names(thing):
+    """The list of what the leaves of the thing name; None if it is not built as a TREE."""
+    found, waiting = [], [thing]
     while waiting:
         part = waiting.pop()
         if type(part) is not tuple or len(part) not in (0, 2, 3):
-            return False
-        if len(part) == 2 and not (part[0] in names and is_natural(part[1])):
-            return False
+            return None
         if len(part) == 3:
             if not is_name(part[0]):
-                return False
+                return None
             waiting.extend(part[1:])
-    return True
+        elif len(part) == 2:
+            if not is_natural(part[1]):
+                return None
+            found.append(part[0])
+    return found
+
+
+def is_tree(names, thing):
+    """Whether the thing is a TREE whose leaves name some of these names."""
+    found = leaf_names(thing)
+    return found is not None and all([name in names for name in found])
 
 
 def side(tree, condition, at):

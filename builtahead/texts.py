@@ -58,9 +58,14 @@ def all_told(found):
     return tuple(found)
 
 
+def names_told(text):
+    """For each piece of a text of NAMEs its NAME, None where it is none."""
+    return [piece if is_name(piece) else None for piece in pieces_in(text, " ")]
+
+
 def names_from(text):
     """The tuple of the NAMEs that are so written."""
-    return all_told([piece if is_name(piece) else None for piece in pieces_in(text, " ")])
+    return all_told(names_told(text))
 
 
 def numbers_from(text):
@@ -115,19 +120,25 @@ def put_under(unfinished, tree):
     return part
 
 
-def tree_from(text):
-    """The TREE that is so written."""
+def tree_told(text):
+    """The pair of the TREE that is so written and None, or of None and the number of the first wrong piece."""
     pieces = text.split(" ")
     whole, unfinished = None, []
     for number, piece in enumerate(pieces):
         is_question = piece.endswith("?") and is_name(piece[:-1])
         found = leaf_in(piece)
         if whole is not None or (found is None and not is_question):
-            raise BadText(number)
+            return None, number
         if is_question:
             unfinished.append([piece[:-1]])
         else:
             whole = put_under(unfinished, found)
-    if whole is None:
-        raise BadText(len(pieces))
-    return whole
+    return (None, len(pieces)) if whole is None else (whole, None)
+
+
+def tree_from(text):
+    """The TREE that is so written."""
+    tree, wrong = tree_told(text)
+    if wrong is not None:
+        raise BadText(wrong)
+    return tree

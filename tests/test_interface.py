@@ -30,6 +30,22 @@ FUNCTIONS = {
     "times": """is_latencies(made, thing), begins(made, turns, latencies), end_time(made, turns, latencies),
         never_later(one, other), latencies_later(one, other), is_latencies_later(one, other, thing),
         chain_apart(one, other), most_times(one, other), is_chain_apart(one, other, thing), beat(made, rates)""",
+    "numbers": """worked_out(turn, cells, multiplier, shift), first_inexact(cells, multiplier, shift),
+        is_exact(cells, multiplier, shift, bound), corners(cells, bound), multipliers(cells, shift, bound),
+        least_numbers(cells, bound)""",
+    "buffers": """buffers(made), is_widths(made, thing), is_order(made, thing), is_chained(order, one, other),
+        may_meet(made, one, other), bases(made, widths), extent(made, widths), cell_span(made, widths, one, turn),
+        meeting_widths(made, one, turn, other, later), is_meeting_widths(made, one, turn, other, later, thing)""",
+    "mades": """names_in(made), trees_of(made, name), place_of_move(made, name), row_of(made, name), mask_of(made, name),
+        is_done(made, name, conditions), home_of(made, name), cells_of(made, name), with_rows(made, rows),
+        with_waits(made, waits), with_wait(made, one, other, gap), without_wait(made, one, other, gap),
+        with_mask(made, name, mask), with_home(made, name, home), is_shaped(thing), form_faults(source, thing),
+        is_made(source, thing), plain_made(source), made_text(made), made_from(text)""",
+    "needs": """needed(source, conditions), ever_needed(source), when_needed(source, name), looks(source, conditions),
+        chain_to(source, conditions, name), is_chain_to(source, conditions, name, thing),
+        last_turns(source, conditions, name), is_looked_at(source, conditions, name, turn, many),
+        looked_at(source, conditions, many), struck(source), needed_names(source, made, conditions),
+        made_looks(source, made, conditions)""",
 }
 
 

@@ -3,11 +3,12 @@
 import ast
 import builtins
 import pathlib
+import re
 import unittest
 
 FOLDER = pathlib.Path(__file__).resolve().parent.parent / "builtahead"
 FILES = sorted(FOLDER.glob("*.py"))
-LIBRARY = {"math": {"gcd", "lcm", "isqrt", "comb"}}
+LIBRARY = {"math": {"gcd", "lcm", "isqrt", "comb"}, "heapq": {"heappush", "heappop"}}
 BUILTINS = set(
     "len range enumerate zip min max sum abs sorted reversed int str bool list tuple dict set isinstance any all divmod "
     "super type ValueError TypeError KeyError".split()
@@ -31,6 +32,19 @@ def trees():
 
 def functions_of(tree):
     return [node for node in ast.walk(tree) if isinstance(node, ast.FunctionDef)]
+
+
+def classes_of(tree):
+    return [node for node in tree.body if isinstance(node, ast.ClassDef)]
+
+
+def methods_of(kind):
+    return {node.name for node in kind.body if isinstance(node, ast.FunctionDef)} - {"__init__"}
+
+
+def attributes_of(tree):
+    """All names that are assigned off an object."""
+    return {node.attr for node in ast.walk(tree) if isinstance(node, ast.Attribute) and isinstance(node.ctx, ast.Store)}
 
 
 def imports_of(tree):
@@ -79,7 +93,8 @@ class LanguageTest(unittest.TestCase):
     def test_imports(self):
         defined, above = {}, {}
         for path, tree in trees():
-            defined["builtahead." + path.stem] = {node.name for node in tree.body if hasattr(node, "name")}
+            constants = {node.targets[0].id for node in tree.body if isinstance(node, ast.Assign)}
+            defined["builtahead." + path.stem] = constants | {node.name for node in tree.body if hasattr(node, "name")}
         for path, tree in trees():
             used = {node.id for node in ast.walk(tree) if isinstance(node, ast.Name)}
             above["builtahead." + path.stem] = [node.module for node in imports_of(tree) if node.module in defined]
@@ -111,13 +126,25 @@ class LanguageTest(unittest.TestCase):
                 self.assertNotIn(word, words, path)
 
     def test_calls(self):
+        own = {name for _, tree in trees() for kind in classes_of(tree) for name in methods_of(kind)}
+        self.assertFalse(own & METHODS)
         for path, tree in trees():
             for node in ast.walk(tree):
                 if isinstance(node, ast.Name) and hasattr(builtins, node.id):
                     self.assertIn(node.id, BUILTINS, (path, node.lineno))
                 if isinstance(node, ast.Call) and isinstance(node.func, ast.Attribute):
                     is_super = isinstance(node.func.value, ast.Call) and getattr(node.func.value.func, "id", "") == "super"
-                    self.assertTrue(is_super or node.func.attr in METHODS, (path, node.lineno))
+                    self.assertTrue(is_super or node.func.attr in METHODS | own, (path, node.lineno))
+
+    def test_attributes(self):
+        for path, tree in trees():
+            assigned = attributes_of(tree)
+            self.assertFalse(assigned & METHODS, path)
+            for kind in classes_of(tree):
+                self.assertFalse(assigned & methods_of(kind), path)
+                # What later classes have as properties is assigned nowhere.
+                if kind.name not in ("Watch", "Board"):
+                    self.assertFalse(attributes_of(kind) & {"source", "made", "told", "names", "deeds"}, path)
 
     def test_names(self):
         for path, tree in trees():
@@ -135,7 +162,7 @@ class LanguageTest(unittest.TestCase):
             right = set()
             for node in ast.walk(tree):
                 if isinstance(node, ast.Call) and getattr(node.func, "id", "") in ("sorted", "len") and not node.keywords:
-                    right.add(node.args[0])
+                    right |= {node.args[0], getattr(node.args[0], "left", None), getattr(node.args[0], "right", None)}
                 if isinstance(node, ast.Assign) and isinstance(node.targets[0], ast.Name):
                     right.add(node.value)
             for node in ast.walk(tree):
@@ -151,7 +178,7 @@ class LanguageTest(unittest.TestCase):
                 if node.name != "__init__":
                     self.assertTrue(ast.get_docstring(node), (path, node.name))
                 if isinstance(node, ast.FunctionDef) and node in tree.body:
-                    is_used = code.count(node.name + "(") > 1
+                    is_used = len(re.findall(rf"\b{node.name}\b", code)) > 1
                     self.assertTrue(is_used or node.name + "(" in listed, f"{path}: {node.name} is not used")
 
 

@@ -4,37 +4,26 @@ import itertools
 import unittest
 from fractions import Fraction
 
-from builtahead import times
 from builtahead.hands import is_stuck
 from builtahead.times import (
     beat, begins, chain_apart, end_time, is_chain_apart, is_latencies, is_latencies_later, latencies_later, most_times,
     never_later,
 )
 from tests.tools import (
-    call, check_examples, check_things, dice, made_of, raises, random_rows, random_waits, thing_variants,
+    call, check_examples, check_things, dice, made_of, names_for, raises, random_rows, random_waits, thing_variants,
 )
 
-# The examples of the document read these MADES from texts; here they are written out.
 EXAMPLES = """
+    >>> one, other, both = [made_from("a; b | - | a; b | " + waits + " | a -; b - | a 0; b 1 | -") for waits in ("a b 0", "b a 0", "a b 0; b a 1")]
     >>> begins(both, 2, (("a", 0, 3), ("a", 1, 4), ("b", 0, 2))), end_time(both, 2, (("a", 0, 3), ("a", 1, 4), ("b", 0, 2)))
     ((('a', 0, 0), ('a', 1, 5), ('b', 0, 3), ('b', 1, 9)), 9)
     >>> never_later(one, other), never_later(one, both), is_latencies_later(one, other, (2, (("a", 0, 1), ("b", 1, 1)))), is_latencies_later(both, one, latencies_later(both, one))
     (False, True, True, True)
     >>> most_times(one, other), most_times(one, both), most_times(both, one), is_chain_apart(one, other, (("a", 0), ("b", 1))), [beat(made, (("a", 3), ("b", 5))) for made in (one, both)]
     (2, 1, 2, True, [(5, 1), (8, 1)])
-    >>> never_later((steps, (), (("a",), ("b",)), (("a", "b", 0), ("b", "a", 0)), masks, homes, ()), one)
+    >>> never_later(made_from("a; b | - | a; b | a b 0; b a 0 | a -; b - | a 0; b 1 | -"), one)
     raises Stuck()
 """
-
-
-def example_names():
-    """The MADES of the examples."""
-    steps, masks = (("a", ()), ("b", ())), (("a", ((),)), ("b", ((),)))
-    homes = (("a", ("seat", 0)), ("b", ("seat", 1)))
-    all_waits = [(("a", "b", 0),), (("b", "a", 0),), (("a", "b", 0), ("b", "a", 1))]
-    one, other, both = [(steps, (), (("a",), ("b",)), waits, masks, homes, ()) for waits in all_waits]
-    return {**vars(times), "one": one, "other": other, "both": both, "steps": steps, "masks": masks, "homes": homes}
-
 
 STUCK = made_of((("a",), ("b",)), (("a", "b", 0), ("b", "a", 0)))
 LOOSE = made_of((("a",), ("b",)), ())
@@ -311,7 +300,7 @@ class BeatTest(unittest.TestCase):
 class ExamplesTest(unittest.TestCase):
 
     def test_examples(self):
-        check_examples(self, EXAMPLES, example_names())
+        check_examples(self, EXAMPLES, names_for("times"))
 
 
 if __name__ == "__main__":

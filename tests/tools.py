@@ -1,7 +1,9 @@
 """What the tests share: calls in all kinds of ways, examples of the document, things of all kinds."""
 
 import copy
+import importlib
 import inspect
+import pathlib
 import random
 
 from builtahead.errors import MadeError
@@ -83,6 +85,15 @@ def check_examples(test, text, names):
             exec(code, values)
         else:
             test.assertEqual(done(code, values), below, code)
+
+
+def names_for(file):
+    """The functions of the whole package, as the examples of this file call them."""
+    found = {}
+    for path in sorted((pathlib.Path(__file__).resolve().parent.parent / "builtahead").glob("*.py")):
+        module = importlib.import_module("builtahead." + path.stem)
+        found.update({name: part for name, part in vars(module).items() if inspect.isfunction(part)})
+    return {**found, **vars(importlib.import_module("builtahead." + file))}
 
 
 def done(code, values):
