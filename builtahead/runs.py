@@ -1,5 +1,7 @@
 """RUNS: all orders of begins and ends that rows and waits allow."""
 
+from heapq import heappop, heappush
+
 from builtahead.errors import NoName, NoNumber
 from builtahead.hands import check_not_stuck, distances, is_stuck, names_in_rows
 from builtahead.values import tupled
@@ -98,23 +100,22 @@ def all_ahead(made, turns, moment):
 
 
 def in_order(all_moments, pairs):
-    """The least order of the moments that keeps all pairs; None if there is none."""
+    """The least order of these moments, given in ascending order, that keeps all pairs; None if there is none."""
     missing = {moment: 0 for moment in all_moments}
     behind = {moment: [] for moment in all_moments}
     for first, later in pairs:
         missing[later] += 1
         behind[first].append(later)
+    ready = [moment for moment in all_moments if missing[moment] == 0]
     done = []
-    while len(done) < len(all_moments):
-        ready = [moment for moment in missing if missing[moment] == 0]
-        if not ready:
-            return None
-        moment = min(ready)
-        del missing[moment]
+    while ready:
+        moment = heappop(ready)
         done.append(moment)
         for later in behind[moment]:
             missing[later] -= 1
-    return tuple(done)
+            if missing[later] == 0:
+                heappush(ready, later)
+    return tuple(done) if len(done) == len(all_moments) else None
 
 
 def check_pairs(made, turns, pairs):

@@ -130,9 +130,9 @@ def story_of(read, steps):
     reached = set(steps)
     while waiting:
         reader = waiting.pop()
-        for word, *rest in read[reader]:
-            step = tuple(rest)
-            if word == "step" and step not in reached:
+        for root in read[reader]:
+            step = root[1:]
+            if root[:1] == ("step",) and step not in reached:
                 reached.add(step)
                 waiting.append(step)
     return tuple([(name, turn, read[(name, turn)]) for name, turn in sorted(reached)])

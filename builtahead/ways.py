@@ -1,4 +1,4 @@
-"""Ways along pairs of names: what pairs lead to."""
+"""Ways along pairs of names: what pairs lead to, and what is left without a name."""
 
 from builtahead.values import set_of
 
@@ -20,3 +20,11 @@ def led_to(pairs, start):
 def ring_names(pairs):
     """The set of the names to which pairs lead from themselves."""
     return set_of([first for first, _ in pairs if first in led_to(pairs, first)])
+
+
+def pairs_without(pairs, name):
+    """The set of the pairs without those of this name; those into it and on from it are put together."""
+    into = [low for low, high in pairs if high == name]
+    onward = [high for low, high in pairs if low == name]
+    kept = [(low, high) for low, high in pairs if name not in (low, high)]
+    return set_of(kept + [(low, high) for low in into for high in onward])

@@ -46,6 +46,17 @@ FUNCTIONS = {
         last_turns(source, conditions, name), is_looked_at(source, conditions, name, turn, many),
         looked_at(source, conditions, many), struck(source), needed_names(source, made, conditions),
         made_looks(source, made, conditions)""",
+    "machine": """is_world(source, made, thing), trace(source, made, world), roots_read(source, made, world, name, turn),
+        root_written(source, made, world, name, turn), told_story(source, made, world),
+        tells_right(source, made, world), first_wrong(source, made, world),
+        seats_behind(source, made, world, number), units_behind(source, made, world, number)""",
+    "lastword": """kept_reads(source, made, conditions), faults(source, made), first_fault(source, made),
+        is_right(source, made), why_right(source, made), is_why_right(source, made, thing)""",
+    "parting": """parting_turns(source, made), fault_world(source, made, fault), part_world(source, made),
+        is_part_world(source, made, thing)""",
+    "seats": """can_sit(source, made, one), may_share(source, made, one, other), sharing_pairs(source, made),
+        why_apart(source, made, one, other), is_layout(source, made, thing), fewest_seats(source, made),
+        least_layout(source, made), apart_most(source, made), seated(source, made)""",
 }
 
 
