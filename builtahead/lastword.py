@@ -2,6 +2,7 @@
 
 from builtahead.flows import all_conditions, flow
 from builtahead.hands import gap_way, is_tuple_of_words, least_arrows, pieces_of_way, stuck_ring
+from builtahead.mades import is_made
 from builtahead.programs import Program
 from builtahead.sources import acts
 from builtahead.values import set_of
@@ -85,6 +86,11 @@ def first_fault(source, made):
 def is_right(source, made):
     """Whether the MADE tells in each WORLD what the SOURCE tells, and is not stuck."""
     return faults(source, made) == []
+
+
+def is_made_right(source, thing):
+    """Whether the thing is MADE of the SOURCE, and right."""
+    return is_made(source, thing) and is_right(source, thing)
 
 
 def all_kept(source, made):

@@ -57,6 +57,43 @@ FUNCTIONS = {
     "seats": """can_sit(source, made, one), may_share(source, made, one, other), sharing_pairs(source, made),
         why_apart(source, made, one, other), is_layout(source, made, thing), fewest_seats(source, made),
         least_layout(source, made), apart_most(source, made), seated(source, made)""",
+    "masks": """acting(source, name), least_masks(source, made), hurt_by(source, made, name, conditions),
+        greatest_masks(source, made), with_masks(made, masks), off_masks(source, made)""",
+    "folds": """fold(rows, waits, name, reads), is_enough(rows, waits, name, reads, many),
+        lost_read(rows, waits, name, reads, many), waits_to_fold(rows, waits, name, reads, many),
+        reads_by(source, made, name), least_cells(source, made), too_few(source, made),
+        with_least_cells(source, made)""",
+    "moves": """chain(made, name, read, conditions), leads_to(made, name, read, conditions), passed(made, name),
+        put_in(source, made, reader, read, move, hand, place, home), places_for(source, made, reader, read),
+        needless_moves(source, made), fewest_moves(source, made)""",
+    "free": """can_go(source, made, waits), free_waits(source, made), fewest_waits(source, made),
+        free_order(source, made), turnable(source, made), seats_for(source, made, name),
+        cells_for(source, made, name), spots_for(source, made, name), swaps(source, made),
+        healing_wait(source, made, hand, place)""",
+    "bounds": """bound_pairs(source, made), is_enough_order(source, made, order), floor_of(source, made, widths),
+        least_extent(source, made, widths), least_order(source, made, widths),
+        is_least_order(source, made, widths, thing)""",
+    "twomades": """chain_of_buffers(one, other), peak_ratio(one, other), widths_apart(one, other),
+        is_widths_apart(one, other, thing), is_beaten(one, other), unbeaten(mades)""",
+    "edits": """is_edit(thing), edited(source, made, edit), undone_by(made, edit), do_commute(source, made, one, other),
+        may_wait(made, one, other, distance), way_of_waits(source, one, other),
+        is_right_way(source, one, other, thing)""",
+    "desk": """answers(text)""",
+}
+# By file and class: how an object is made, its properties, its methods.
+CLASSES = {
+    ("edits", "Watch"): (
+        ["source", "made"], ["source", "made", "told"],
+        {"right": [], "fault": [], "do": ["edit"], "back": [], "back_alone": ["number"], "twin": [], "__len__": [], "__eq__": ["other"]},
+    ),
+    ("board", "Board"): (
+        [], ["names", "deeds"],
+        {
+            "put": ["name", "source", "made"], "drop": ["name"], "rename": ["name", "new"], "edit": ["name", "edit"], "undo": [],
+            "twin": [], "right": [], "of_source": ["source"], "in_seat": ["number"], "alike": ["name"], "__len__": [],
+            "__contains__": ["name"], "__getitem__": ["name"], "__eq__": ["other"],
+        },
+    ),
 }
 
 
@@ -75,9 +112,30 @@ class InterfaceTest(unittest.TestCase):
                     self.assertEqual(function.__module__, "builtahead." + file)
                     found = list(inspect.signature(function).parameters.values())
                     self.assertEqual([part.name for part in found], rest.rstrip(")").split(", "))
-                    for part in found:
-                        self.assertEqual(part.kind, part.POSITIONAL_OR_KEYWORD)
-                        self.assertIs(part.default, part.empty)
+                    self.check_plain(found)
+
+    def check_plain(self, parts):
+        for part in parts:
+            self.assertEqual(part.kind, part.POSITIONAL_OR_KEYWORD)
+            self.assertIs(part.default, part.empty)
+
+    def test_each_class_has_its_methods_itself(self):
+        for (file, word), (made_by, properties, methods) in CLASSES.items():
+            kind = getattr(importlib.import_module("builtahead." + file), word)
+            self.assertEqual((kind.__module__, kind.__bases__), ("builtahead." + file, (object,)))
+            found = list(inspect.signature(kind).parameters.values())
+            self.assertEqual([part.name for part in found], made_by)
+            self.check_plain(found)
+            for name in properties:
+                told = vars(kind)[name]
+                self.assertIsInstance(told, property)
+                self.assertEqual((told.fset, told.fdel), (None, None))
+            for name, words in methods.items():
+                method = vars(kind)[name]
+                self.assertTrue(inspect.isfunction(method), name)
+                found = list(inspect.signature(method).parameters.values())
+                self.assertEqual([part.name for part in found], ["self", *words])
+                self.check_plain(found)
 
 
 if __name__ == "__main__":

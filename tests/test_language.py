@@ -11,7 +11,7 @@ FILES = sorted(FOLDER.glob("*.py"))
 LIBRARY = {"math": {"gcd", "lcm", "isqrt", "comb"}, "heapq": {"heappush", "heappop"}}
 BUILTINS = set(
     "len range enumerate zip min max sum abs sorted reversed int str bool list tuple dict set isinstance any all divmod "
-    "super type ValueError TypeError KeyError".split()
+    "super type property ValueError TypeError KeyError".split()
 )
 METHODS = set(
     "append clear copy count endswith extend find get index insert isalnum isalpha isdigit islower isspace isupper items "
@@ -21,8 +21,11 @@ METHODS = set(
 )
 BARRED_NODES = (
     ast.GeneratorExp, ast.Yield, ast.YieldFrom, ast.Await, ast.AsyncFunctionDef, ast.Global, ast.Import, ast.Pow, ast.Div,
-    ast.Try, ast.With, ast.NamedExpr,
+    ast.With, ast.NamedExpr, ast.Lambda, ast.Assert, ast.Nonlocal, ast.AnnAssign, ast.Match,
 )
+DOUBLE = {"__init__", "__len__", "__eq__", "__contains__", "__getitem__", "__iter__"}
+# What has a property, an item or an operator changes nothing but what it made itself.
+QUIET = DOUBLE - {"__init__"}
 BARRED_WORDS = ("typing", "enum", "Enum", "Flag", "Generic", "Protocol", "ABC", "dataclass", "_wall", "_WallAttr", "elements")
 
 
@@ -39,7 +42,11 @@ def classes_of(tree):
 
 
 def methods_of(kind):
-    return {node.name for node in kind.body if isinstance(node, ast.FunctionDef)} - {"__init__"}
+    return {node.name for node in kind.body if isinstance(node, ast.FunctionDef)} - DOUBLE
+
+
+def properties_of(kind):
+    return {node.name for node in kind.body if isinstance(node, ast.FunctionDef) and node.decorator_list}
 
 
 def attributes_of(tree):
@@ -75,7 +82,51 @@ class LanguageTest(unittest.TestCase):
         for path, tree in trees():
             for function in functions_of(tree):
                 self.assertLessEqual(function.end_lineno - function.lineno + 1, 40, (path, function.name))
-                self.assertFalse(function.decorator_list)
+
+    def test_decorators_and_double_underscores(self):
+        for path, tree in trees():
+            in_classes = [node for kind in classes_of(tree) for node in kind.body if isinstance(node, ast.FunctionDef)]
+            for function in functions_of(tree):
+                words = [getattr(part, "id", None) for part in function.decorator_list]
+                self.assertIn(words, [[], ["property"]] if function in in_classes else [[]], (path, function.name))
+                if function.name.startswith("__"):
+                    self.assertIn(function, in_classes)
+                    self.assertIn(function.name, DOUBLE)
+                if words or function.name in QUIET:
+                    self.assertLessEqual(len(words), len(function.args.args))
+                    for node in ast.walk(function):
+                        self.assertNotIsInstance(node, (ast.Assign, ast.AugAssign, ast.Delete, ast.For, ast.While, ast.Try), (path, function.name))
+            for kind in classes_of(tree):
+                names = [node.name for node in kind.body if isinstance(node, ast.FunctionDef)]
+                self.assertEqual(len(names), len(set(names)), path)
+                if "__getitem__" in names:
+                    self.assertIn("__iter__", names)
+
+    def test_errors_that_are_caught(self):
+        own = {kind.name for path, tree in trees() if path.name == "errors.py" for kind in classes_of(tree)}
+        for path, tree in trees():
+            for node in ast.walk(tree):
+                if isinstance(node, ast.Try):
+                    self.assertFalse(node.finalbody, path)
+                if isinstance(node, ast.ExceptHandler):
+                    kinds = node.type.elts if isinstance(node.type, ast.Tuple) else [node.type]
+                    self.assertTrue({kind.id for kind in kinds} <= own, path)
+                    self.assertIsNone(node.name)
+                if isinstance(node, ast.Raise):
+                    self.assertIsInstance(node.exc, ast.Call, (path, node.lineno))
+                    self.assertIn(node.exc.func.id, own | {"TypeError"})
+                    self.assertIsNone(node.cause)
+                    self.assertFalse(node.exc.keywords)
+
+    def test_stars_in_calls_are_names(self):
+        for path, tree in trees():
+            for node in ast.walk(tree):
+                if isinstance(node, ast.Call):
+                    for part in node.args:
+                        if isinstance(part, ast.Starred):
+                            self.assertIsInstance(part.value, ast.Name, (path, node.lineno))
+                    for word in node.keywords:
+                        self.assertIsNotNone(word.arg, (path, node.lineno))
 
     def test_module_level(self):
         kinds = (ast.ImportFrom, ast.FunctionDef, ast.ClassDef, ast.Assign)
@@ -85,7 +136,11 @@ class LanguageTest(unittest.TestCase):
             for at, node in enumerate(tree.body[1:]):
                 self.assertIsInstance(node, kinds, path)
                 if isinstance(node, ast.Assign):
-                    self.assertIsInstance(node.value, ast.Constant, path)
+                    self.assertIsInstance(node.value, (ast.Constant, ast.Dict), path)
+                    if isinstance(node.value, ast.Dict):
+                        above = {other.name for other in tree.body[:at + 1] if isinstance(other, ast.FunctionDef)}
+                        self.assertTrue(all(isinstance(key, ast.Constant) for key in node.value.keys), path)
+                        self.assertTrue(all(isinstance(one, ast.Constant) or one.id in above for one in node.value.values), path)
                     names.append(node.targets[0].id)
             names += [part.name for node in imports_of(tree) for part in node.names]
             self.assertEqual(len(names), len(set(names)), path)
@@ -136,21 +191,45 @@ class LanguageTest(unittest.TestCase):
                     is_super = isinstance(node.func.value, ast.Call) and getattr(node.func.value.func, "id", "") == "super"
                     self.assertTrue(is_super or node.func.attr in METHODS | own, (path, node.lineno))
 
+    def test_iterated_at_once(self):
+        takers = {"list", "tuple", "dict", "sorted", "sum", "any", "all", "enumerate", "zip", "min", "max"}
+        for path, tree in trees():
+            right = set()
+            for node in ast.walk(tree):
+                if isinstance(node, (ast.For, ast.comprehension)):
+                    right.add(node.iter)
+                if isinstance(node, ast.Call) and getattr(node.func, "id", "") in takers:
+                    right |= set(node.args)
+                if isinstance(node, ast.Compare) and isinstance(node.ops[0], (ast.In, ast.NotIn)):
+                    right |= set(node.comparators)
+            for node in ast.walk(tree):
+                if isinstance(node, ast.Call):
+                    is_view = getattr(node.func, "attr", "") in ("items", "keys", "values")
+                    if is_view or getattr(node.func, "id", "") in ("zip", "enumerate", "reversed", "range"):
+                        self.assertIn(node, right, (path, node.lineno))
+
     def test_attributes(self):
         for path, tree in trees():
             assigned = attributes_of(tree)
             self.assertFalse(assigned & METHODS, path)
             for kind in classes_of(tree):
                 self.assertFalse(assigned & methods_of(kind), path)
-                # What later classes have as properties is assigned nowhere.
-                if kind.name not in ("Watch", "Board"):
-                    self.assertFalse(attributes_of(kind) & {"source", "made", "told", "names", "deeds"}, path)
+        # What one class has as a property no class has as an attribute or as a method.
+        kinds = [kind for _, tree in trees() for kind in classes_of(tree)]
+        properties = {name for kind in kinds for name in properties_of(kind)}
+        self.assertEqual(properties, {"source", "made", "told", "names", "deeds"})
+        for kind in kinds:
+            self.assertFalse((attributes_of(kind) | methods_of(kind) - properties_of(kind)) & properties, kind.name)
+            # An attribute that is read is one that some class assigns.
+            read = {node.attr for node in ast.walk(kind) if isinstance(node, ast.Attribute) and node.attr.startswith("_")}
+            known = {name for other in kinds for name in attributes_of(other) | methods_of(other)} | DOUBLE
+            self.assertTrue(read <= known, (kind.name, read - known))
 
     def test_names(self):
         for path, tree in trees():
             taken = {part.name for node in imports_of(tree) for part in node.names}
             taken |= {node.name for node in tree.body if isinstance(node, ast.ClassDef)}
-            for name in bound_names(tree) | {function.name for function in functions_of(tree)} - {"__init__"}:
+            for name in bound_names(tree) | {function.name for function in functions_of(tree)} - DOUBLE:
                 self.assertFalse(hasattr(builtins, name), (path, name))
                 self.assertNotIn(name, taken, path)
                 self.assertFalse(name.startswith("__"), (path, name))

@@ -6,18 +6,16 @@ import unittest
 from builtahead.flows import all_conditions, flow
 from builtahead.hands import is_stuck, least_gap
 from builtahead.lastword import is_right
-from builtahead.mades import (
-    is_made, made_from, names_in, plain_made, with_home, with_rows, with_wait, with_waits, without_wait,
-)
+from builtahead.mades import is_made, made_from, names_in, plain_made, with_home, with_wait, with_waits, without_wait
 from builtahead.needs import needed_names
 from builtahead.seats import (
     apart_most, can_sit, fewest_seats, is_layout, least_layout, may_share, seated, sharing_pairs, why_apart,
 )
 from builtahead.sources import source_from
 from tests.tools import (
-    ODD_THINGS, all_subsets, call, check_examples, check_things, dice, names_for, raises, random_waits, thing_variants,
+    ODD_THINGS, all_subsets, call, check_examples, check_things, dice, names_for, raises, thing_variants,
 )
-from tests.worlds import even_source, led_by, random_made, random_order, some_rows
+from tests.worlds import even_source, led_by, near_made, random_made
 
 EXAMPLES = """
     >>> source = source_from("load - p.0.0; mul - q.0.0 p.0.0; add* - r.0.0 q.0.0 r.0.0")
@@ -32,16 +30,6 @@ EXAMPLES = """
 """
 
 STUCK = made_from("a; b a.0 | - | a; b | a b 0; b a 0 | a -; b - | a 0; b 1 | -")
-
-
-def near_made(rng, source):
-    """A MADE that is not far from right, its names in the order of the SOURCE."""
-    made = plain_made(source)
-    order = [statement[0] for statement in source[0]]
-    ahead = [(one, other, 0) for one, other in zip(order, order[1:])] + [(order[-1], order[0], rng.choice([1, 1, 2]))]
-    made = with_rows(made, some_rows(rng, source, list(names_in(made))))
-    made = with_waits(made, tuple(wait for wait in ahead if rng.random() < 0.9))
-    return made if rng.random() < 0.5 else (*made[:6], random_order(rng, list(names_in(made))))
 
 
 def some(seed, count, most=4):

@@ -2,10 +2,13 @@
 
 import itertools
 
-from builtahead.flows import all_conditions
-from builtahead.mades import is_made, plain_made
+from builtahead.flows import all_conditions, flow
+from builtahead.hands import least_gap
+from builtahead.mades import is_made, names_in, plain_made, with_home, with_rows, with_waits
 from builtahead.meets import is_even
+from builtahead.needs import needed
 from builtahead.numbers import least_numbers
+from builtahead.sources import acts
 from tests.tools import random_place, random_rows, random_waits
 
 MOST_TURNS = 10 ** 6
@@ -127,11 +130,115 @@ def random_made(rng, source, most_cells=3):
             return made
 
 
+def safe_made(rng, source):
+    """A MADE of the SOURCE that is not far from right: waits enough for the order of its turn, a chain of buffers."""
+    made = plain_made(source)
+    names = names_in(made)
+    made = with_rows(made, some_rows(rng, source, list(names)))
+    order = [statement[0] for statement in source[0]]
+    ahead = [(one, other, 0) for one, other in zip(order, order[1:])] + [(order[-1], order[0], rng.choice([1, 1, 2]))]
+    made = with_waits(made, tuple(wait for wait in ahead if rng.random() < 0.9))
+    if rng.random() < 0.6:
+        for name in names:
+            if rng.random() < 0.5:
+                made = with_home(made, name, rng.choice([("seat", rng.randint(0, 2)), buffer(rng.randint(1, 3))]))
+    boxes = [name for name, home in made[5] if home[0] == "cells"]
+    return (*made[:6], random_order(rng, boxes))
+
+
+def near_made(rng, source):
+    """A MADE that is not far from right, its names in the order of the SOURCE."""
+    made = plain_made(source)
+    order = [statement[0] for statement in source[0]]
+    ahead = [(one, other, 0) for one, other in zip(order, order[1:])] + [(order[-1], order[0], rng.choice([1, 1, 2]))]
+    made = with_rows(made, some_rows(rng, source, list(names_in(made))))
+    made = with_waits(made, tuple(wait for wait in ahead if rng.random() < 0.9))
+    return made if rng.random() < 0.5 else (*made[:6], random_order(rng, list(names_in(made))))
+
+
 def led_by(tree, conditions):
     """What the TREE leads to."""
     while len(tree) == 3:
         tree = tree[2] if tree[0] in conditions else tree[1]
     return tree
+
+
+class HandWord:
+    """The FAULTS of a MADE by some CONDITIONS, want by want, in the words of [16]."""
+
+    def __init__(self, source, made, conditions):
+        self.source, self.made, self.conditions = source, made, conditions
+        self.trees = {**dict(made[0]), **{name: (tree,) for name, _, tree in made[1]}}
+        self.places = {name: place for name, place, _ in made[1]}
+        self.homes = dict(made[5])
+        self.kept, self.found = set(), set()
+        reads = {name: places for name, _, _, places in source[0]}
+        for name in needed(source, conditions):
+            for number, tree in enumerate(dict(flow(source))[name]):
+                if name in dict(made[0]):
+                    self.follow(name, number, led_by(tree, conditions), reads[name][number])
+        for name in source[1]:
+            if self.done(name) != acts(source, name, conditions):
+                self.found.add(("told", conditions, name, 0, ""))
+        for read in self.kept:
+            self.judge(*read)
+
+    def done(self, name):
+        return self.conditions in dict(self.made[4]).get(name, ())
+
+    def follow(self, name, number, wanted, place):
+        leaf = led_by(self.trees[name][number], self.conditions)
+        if name in self.places:
+            own = self.places[name]
+            turns = range(leaf[1] if leaf else 40)
+            if any((own[0], own[1] * turn + own[2]) != (place[0], place[1] * turn + place[2]) for turn in turns):
+                self.found.add(("leaf", self.conditions, name, number, ""))
+                return
+        if leaf == wanted == ():
+            return
+        if leaf and leaf[0] in self.places and (wanted == () or leaf[1] <= wanted[1]):
+            self.kept.add((name, number, *leaf))
+            rest = (wanted[0], wanted[1] - leaf[1]) if wanted else ()
+            self.follow(leaf[0], 0, rest, (place[0], place[1], place[2] + place[1] * leaf[1]))
+        elif leaf and wanted and leaf[0] not in self.places and leaf[1] == wanted[1] and (
+            self.homes[leaf[0]] == self.homes.get(wanted[0]) if self.homes[leaf[0]][0] == "seat" else leaf[0] == wanted[0]
+        ):
+            self.kept.add((name, number, *wanted))
+        else:
+            self.found.add(("leaf", self.conditions, name, number, ""))
+
+    def leads(self, low, high):
+        pairs = [pair for pair in self.made[6] if pair[0] == low]
+        return any(pair[1] == high or self.leads(pair[1], high) for pair in pairs)
+
+    def looked_at(self, writer):
+        """All names that over looks at."""
+        found = []
+        for other in names_in(self.made):
+            both = [self.homes[other], self.homes[writer]]
+            meet = both[0] == both[1] and both[0][0] == "seat"
+            if both[0][0] == both[1][0] == "cells":
+                meet = not self.leads(other, writer) and not self.leads(writer, other)
+            if other == writer or meet and self.done(other):
+                found.append(other)
+        return found
+
+    def judge(self, name, number, writer, d):
+        def way(one, other):
+            return 0 if one == other else least_gap(self.made, one, other)
+        if not self.done(writer):
+            self.found.add(("done", self.conditions, name, number, writer))
+            return
+        distance = least_gap(self.made, writer, name)
+        if distance is None or distance > d:
+            self.found.add(("late", self.conditions, name, number, writer))
+        for other in self.looked_at(writer):
+            bound = 1
+            if other == writer:
+                bound = self.homes[writer][1] if self.homes[writer][0] == "cells" else 1
+            sums = [way(name, other), way(other, writer)]
+            if None in sums or sum(sums) + d > bound:
+                self.found.add(("over", self.conditions, name, number, other))
 
 
 def laid(made, widths):
